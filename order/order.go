@@ -9,7 +9,7 @@ type Set[T comparable] struct {
 
 // Add tells the thing's place in the order (from 0 on), and whether it is new.
 func (s *Set[T]) Add(thing T) (int, bool) {
-	if place, ok := s.places[thing]; ok {
+	if place, found := s.Find(thing); found {
 		return place, false
 	}
 	if s.places == nil {
@@ -21,10 +21,16 @@ func (s *Set[T]) Add(thing T) (int, bool) {
 	return place, true
 }
 
+// Find tells the thing's place, and whether it came already.
+func (s *Set[T]) Find(thing T) (int, bool) {
+	place, found := s.places[thing]
+	return place, found
+}
+
 // Has tells whether the thing came already.
 func (s *Set[T]) Has(thing T) bool {
-	_, ok := s.places[thing]
-	return ok
+	_, found := s.Find(thing)
+	return found
 }
 
 // Len tells how many things came.

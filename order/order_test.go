@@ -18,12 +18,18 @@ func TestSetKeepsEachThingOnceInItsOrder(t *testing.T) {
 		}
 	}
 	for i, want := range []string{"b", "a", ""} {
+		if place, found := s.Find(want); place != i || !found {
+			t.Errorf("Find(%q) = %d, %v, want %d", want, place, found, i)
+		}
 		if s.At(i) != want || !s.Has(want) {
 			t.Errorf("At(%d) = %q, want %q", i, s.At(i), want)
 		}
 	}
-	if s.Len() != 3 || s.Has("c") {
-		t.Errorf("Len() = %d, Has(c) = %v", s.Len(), s.Has("c"))
+	if _, found := s.Find("c"); found || s.Has("c") {
+		t.Errorf("Find(c) tells %v, Has(c) %v", found, s.Has("c"))
+	}
+	if s.Len() != 3 { // to look for a thing does not add it
+		t.Errorf("Len() = %d", s.Len())
 	}
 }
 

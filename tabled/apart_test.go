@@ -13,6 +13,8 @@ func TestBasesKnowNothingOfOneAnother(t *testing.T) {
 	checkRetract(t, one, "edge(a,b)", api.OK, 0)
 	checkAssert(t, one, "name", api.OK, 0)
 	checkPrint(t, two, example)
+	checkLayer(t, one, "name", 0)
+	checkLayer(t, two, "name", -1)
 	checkAssert(t, two, "name(a)", api.OK, 0)
 	checkRetract(t, two, "edge(a,b)", api.OK, 0)
 	checkAssert(t, one, "edge(a,b)", api.OK, 0)
@@ -30,6 +32,7 @@ func TestTheSameCallsAnswerTheSame(t *testing.T) {
 		base := load(t, example)
 		checkAssert(t, base, "node(e)", api.OK, 0)
 		checkPrint(t, base, example+"node(e).\n")
+		checkLayers(t, base, "apart 1 path 0 e -1 apart 1 path 0 e -1")
 		checkPrint(t, base, example+"node(e).\n")
 	}
 }
@@ -65,7 +68,7 @@ func TestManyBasesAtOneTime(t *testing.T) {
 				base, _, _ := tabled.Load(example)
 				base.Retract("edge(a,b)")
 				base.Assert("edge(a,b)")
-				if len(base.Print()) != len(example) {
+				if len(base.Print()) != len(example) || base.Layer("apart") != 1 {
 					t.Error("P2: bases that are made at one time get in each other's way")
 				}
 			}

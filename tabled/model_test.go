@@ -2,6 +2,7 @@ package tabled_test
 
 import (
 	"math/rand"
+	"regexp"
 	"slices"
 	"strings"
 	"testing"
@@ -116,8 +117,8 @@ func expectUnsafe(program []wroteClause) int {
 	return -1
 }
 
-// expectLayers makes the whole relation 'depends', until it does not grow any more.
-func expectLayers(program []wroteClause) int {
+// dependsOf makes the whole relation 'depends', until it does not grow any more.
+func dependsOf(program []wroteClause) map[[2]string]bool {
 	depends := map[[2]string]bool{}
 	for _, c := range program {
 		for _, l := range c.body {
@@ -138,6 +139,11 @@ func expectLayers(program []wroteClause) int {
 			}
 		}
 	}
+	return depends
+}
+
+func expectLayers(program []wroteClause) int {
+	depends := dependsOf(program)
 	for _, c := range program {
 		for _, l := range c.body {
 			if l.negative && (l.name == c.head.name || depends[[2]string{l.name, c.head.name}]) {
@@ -206,6 +212,14 @@ func (m *model) retract(fact string) api.Errno {
 	return api.OK
 }
 
+// layer of the one name that no rule of modelProgram has.
+func (m model) layerOfNew() int {
+	if slices.ContainsFunc(m, func(line string) bool { return strings.HasPrefix(line, "new") }) {
+		return 0
+	}
+	return -1
+}
+
 func (m model) print() string {
 	if len(m) == 0 {
 		return ""
@@ -218,11 +232,12 @@ func TestFactsComeAndGo(t *testing.T) {
 	base := load(t, modelProgram)
 	m := model(strings.Split(strings.TrimSpace(modelProgram), "\n"))
 	seen := map[api.Errno]int{}
-	for range 20000 {
+	gone := 0
+	for round := range 20000 {
 		w := writer{source: source}
 		fact := w.pick("p", "r", "s", "new") + "(" + w.pick("a", "b", "c", "d", "e", "f", "g", "h", "i", "j", "k", "l") + ")"
 		var errno api.Errno
-		if source.Intn(20) < 16 { // often enough that the base is full at times
+		if source.Intn(20) < []int{16, 4}[round/500%2] { // by turns, so that the base is now full, now nearly empty
 			errno = m.assert(fact)
 			checkAssert(t, base, fact, errno, 0)
 		} else {
@@ -231,6 +246,9 @@ func TestFactsComeAndGo(t *testing.T) {
 		}
 		seen[errno]++
 		checkPrint(t, base, m.print())
+		checkLayers(t, base, "p 0 q 0 r 0 s 1")
+		checkLayer(t, base, "new", m.layerOfNew())
+		gone += -m.layerOfNew()
 		if t.Failed() {
 			return
 		}
@@ -240,7 +258,12 @@ func TestFactsComeAndGo(t *testing.T) {
 			t.Errorf("no answer %d: %v", errno, seen)
 		}
 	}
+	if gone < 100 {
+		t.Errorf("the name new was nowhere %d times only", gone)
+	}
 }
+
+var betweenParentheses = regexp.MustCompile(`\([^)]*\)`)
 
 // TestAnyText gives every call what comes, and asks that errors stand alone and change nothing (P1).
 func TestAnyText(t *testing.T) {
@@ -252,6 +275,19 @@ func TestAnyText(t *testing.T) {
 			text.WriteString(pieces[source.Intn(len(pieces))])
 		}
 		checkAnyText(t, text.String())
+	}
+}
+
+// checkWhetherKnown looks for the name in what Print tells, without all that stands between parentheses.
+func checkWhetherKnown(t *testing.T, base *tabled.Base, text string) {
+	t.Helper()
+	names := strings.FieldsFunc(betweenParentheses.ReplaceAllString(base.Print(), ""), func(r rune) bool {
+		return strings.ContainsRune(":-!,.\n", r)
+	})
+	for _, name := range append(names, text) {
+		if layer := base.Layer(name); (layer >= 0) != slices.Contains(names, name) || layer < -1 {
+			t.Errorf("P6: Layer(%q) = %d in %q", name, layer, base.Print())
+		}
 	}
 }
 
@@ -275,7 +311,7 @@ func checkAnyText(t *testing.T, text string) {
 		}
 		before = base.Print()
 	}
-	base.Layer(text)
+	checkWhetherKnown(t, base, text)
 	base.Ask(text)
 	base.AskAll(text, text)
 	if base.Print() != before {

@@ -6,6 +6,7 @@ import (
 
 	"tabled/api"
 	"tabled/check"
+	"tabled/layer"
 	"tabled/syntax"
 )
 
@@ -112,7 +113,7 @@ func (b *Base) readQuestion(text string) (syntax.Atom, syntax.Spot, api.Errno, i
 }
 
 // Layer tells a name's layer (P6).
-func (b *Base) Layer(name string) int { return 0 }
+func (b *Base) Layer(name string) int { return layer.Of(b.clauses, name) }
 
 // Ask answers a question (P7).
 func (b *Base) Ask(question string) ([]string, api.Errno, int) { return nil, api.OK, 0 }
