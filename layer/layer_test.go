@@ -12,11 +12,7 @@ func clausesOf(t *testing.T, text string) []syntax.Clause {
 	if !ok {
 		t.Fatalf("%q has not the form, at %d", text, place)
 	}
-	var clauses []syntax.Clause
-	for _, placed := range program {
-		clauses = append(clauses, placed.Clause)
-	}
-	return clauses
+	return syntax.Clauses(program)
 }
 
 func TestOf(t *testing.T) {

@@ -39,6 +39,15 @@ type Placed struct {
 	Spots  []Spot
 }
 
+// Clauses leaves the places behind.
+func Clauses(program []Placed) []Clause {
+	var clauses []Clause
+	for _, placed := range program {
+		clauses = append(clauses, placed.Clause)
+	}
+	return clauses
+}
+
 // IsVariable tells a variable from a constant.
 func IsVariable(term string) bool {
 	return term != "" && isGreat(term[0])

@@ -8,11 +8,7 @@ func read(t *testing.T, text string) []Clause {
 	if !ok {
 		t.Fatalf("ReadProgram(%q): a fault at %d", text, place)
 	}
-	var clauses []Clause
-	for _, placed := range program {
-		clauses = append(clauses, placed.Clause)
-	}
-	return clauses
+	return Clauses(program)
 }
 
 func TestPrintProgram(t *testing.T) {
@@ -25,6 +21,15 @@ func TestPrintProgram(t *testing.T) {
 		{"p:-a,!b,c,!d.", "p:-a,!b,c,!d.\n"},
 	} {
 		if got := PrintProgram(read(t, c.text)); got != c.want {
+			t.Errorf("%q is printed %q, want %q", c.text, got, c.want)
+		}
+	}
+}
+
+func TestPrintAtom(t *testing.T) {
+	for _, c := range []struct{ text, want string }{{"p", "p"}, {" p ( a )", "p(a)"}, {"p(X, b,\nX)", "p(X,b,X)"}} {
+		atom, _, _, ok := ReadQuestion(c.text)
+		if got := PrintAtom(atom); got != c.want || !ok {
 			t.Errorf("%q is printed %q, want %q", c.text, got, c.want)
 		}
 	}

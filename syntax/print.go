@@ -12,6 +12,13 @@ func PrintProgram(clauses []Clause) string {
 	return out.String()
 }
 
+// PrintAtom tells the printed form of an atom.
+func PrintAtom(atom Atom) string {
+	var out strings.Builder
+	printAtom(&out, atom)
+	return out.String()
+}
+
 func printClause(out *strings.Builder, clause Clause) {
 	printAtom(out, clause.Head)
 	for i, literal := range clause.Body {

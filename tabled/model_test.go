@@ -312,7 +312,10 @@ func checkAnyText(t *testing.T, text string) {
 		before = base.Print()
 	}
 	checkWhetherKnown(t, base, text)
-	base.Ask(text)
+	atoms, errno, place := base.Ask(text)
+	if errno == api.OK && place != 0 || errno != api.OK && atoms != nil || place < 0 || place > len(text) {
+		t.Errorf("P1: with the question %q: %q, %d, %d", text, atoms, errno, place)
+	}
 	base.AskAll(text, text)
 	if base.Print() != before {
 		t.Errorf("P1: asking %q changes the base", text)

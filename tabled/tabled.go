@@ -6,8 +6,10 @@ import (
 
 	"tabled/api"
 	"tabled/check"
+	"tabled/goal"
 	"tabled/layer"
 	"tabled/syntax"
+	"tabled/work"
 )
 
 // Base: rules and facts.
@@ -27,11 +29,7 @@ func Load(program string) (*Base, api.Errno, int) {
 	if errno, place := findFault(placed); errno != api.OK {
 		return nil, errno, place
 	}
-	base := &Base{}
-	for _, clause := range placed {
-		base.clauses = append(base.clauses, clause.Clause)
-	}
-	return base, api.OK, 0
+	return &Base{clauses: syntax.Clauses(placed)}, api.OK, 0
 }
 
 // findFault asks in the order in which the document names the errors.
@@ -115,8 +113,26 @@ func (b *Base) readQuestion(text string) (syntax.Atom, syntax.Spot, api.Errno, i
 // Layer tells a name's layer (P6).
 func (b *Base) Layer(name string) int { return layer.Of(b.clauses, name) }
 
-// Ask answers a question (P7).
-func (b *Base) Ask(question string) ([]string, api.Errno, int) { return nil, api.OK, 0 }
+// Ask answers a question (P7). Its tables end with it: what is asserted or retracted next may make them untrue.
+func (b *Base) Ask(question string) ([]string, api.Errno, int) {
+	atom, _, errno, place := b.readQuestion(question)
+	if errno != api.OK {
+		return nil, errno, place
+	}
+	if work.IsAbove(b.clauses, api.MaxWork) {
+		return nil, api.ErrLimit, 0
+	}
+	return printSorted(goal.New(b.clauses).Answers(atom)), api.OK, 0
+}
+
+func printSorted(atoms []syntax.Atom) []string {
+	var printed []string
+	for _, atom := range atoms {
+		printed = append(printed, syntax.PrintAtom(atom))
+	}
+	slices.Sort(printed)
+	return printed
+}
 
 // AskAll answers many (P8).
 func (b *Base) AskAll(questions ...string) []api.Answer { return nil }
