@@ -2,12 +2,15 @@
 package goal
 
 import (
+	"sync"
+
 	"tabled/order"
 	"tabled/syntax"
 )
 
-// Tables of answers: one for each kind of question that came up.
+// Tables of answers: one for each kind of question that came up. Many may ask them at one time.
 type Tables struct {
+	guard     sync.Mutex
 	words     words
 	rules     []rule // the facts among them, as rules without a body
 	questions order.Set[atom]
@@ -30,8 +33,11 @@ func New(clauses []syntax.Clause) *Tables {
 	return tables
 }
 
-// Answers tells all ground atoms that hold and that the question becomes, each once.
+// Answers tells all ground atoms that hold and that the question becomes, each once. It holds the guard to its end:
+// no other question must meet tables that are half filled.
 func (t *Tables) Answers(question syntax.Atom) []syntax.Atom {
+	t.guard.Lock()
+	defer t.guard.Unlock()
 	var variables order.Set[string]
 	found := t.finish(t.words.codeAtom(question, &variables))
 	var answers []syntax.Atom

@@ -3,6 +3,7 @@ package goal
 import (
 	"slices"
 	"strings"
+	"sync"
 	"testing"
 
 	"tabled/syntax"
@@ -23,8 +24,12 @@ func ask(t *testing.T, tables *Tables, text string) string {
 	if !ok {
 		t.Fatalf("%q has not the form, at %d", text, place)
 	}
+	return printSorted(tables.Answers(question))
+}
+
+func printSorted(atoms []syntax.Atom) string {
 	var printed []string
-	for _, atom := range tables.Answers(question) {
+	for _, atom := range atoms {
 		printed = append(printed, syntax.PrintAtom(atom))
 	}
 	slices.Sort(printed)
@@ -101,6 +106,28 @@ func TestManyQuestionsOfTheSameTables(t *testing.T) {
 				t.Errorf("%q: %q, by itself %q", question, got, want)
 			}
 		}
+	}
+}
+
+// TestManyAskTheSameTables at one time, while nothing is known yet.
+func TestManyAskTheSameTables(t *testing.T) {
+	questions := []string{"p(a,X)", "apart(X,Y)", "p(X,c)", "n(X)", "p(zz,X)", "apart(b,X)", "p(X,X)", "x(X)", "e(zz,zz)"}
+	var want []string
+	for _, question := range questions {
+		want = append(want, ask(t, tablesOf(t, paths), question))
+	}
+	for range 20 {
+		tables := tablesOf(t, paths)
+		var group sync.WaitGroup
+		for i := range 8 * len(questions) {
+			group.Go(func() {
+				place := i % len(questions)
+				if question, _, _, _ := syntax.ReadQuestion(questions[place]); printSorted(tables.Answers(question)) != want[place] {
+					t.Errorf("%q is not %q, if many ask", questions[place], want[place])
+				}
+			})
+		}
+		group.Wait()
 	}
 }
 

@@ -227,7 +227,7 @@ func (d *drawer) questions() []wroteLiteral {
 	return questions
 }
 
-// compareAsk tells how many answers there were, and how many questions were refused.
+// compareAsk asks one by one and all at one time. It tells how many answers there were, and how many questions were refused.
 func (d *drawer) compareAsk(t *testing.T, base *tabled.Base, program []wroteClause) (answers, refused int) {
 	t.Helper()
 	isTooMuch := expectWork(program) > api.MaxWork
@@ -235,15 +235,20 @@ func (d *drawer) compareAsk(t *testing.T, base *tabled.Base, program []wroteClau
 	if !isTooMuch {
 		holds = expectHolds(program)
 	}
+	var turns []string
 	for _, question := range d.questions() {
 		text := strings.ReplaceAll(question.print(), ",", d.pick([]string{",", " , ", "\n,"}))
 		if isTooMuch {
 			checkAskRefused(t, base, text, api.ErrLimit, 0)
 			refused++
+			turns = append(turns, text, "error 1 at 0")
 			continue
 		}
-		checkAsk(t, base, text, expectAsk(holds, question))
+		want := expectAsk(holds, question)
+		checkAsk(t, base, text, want)
+		turns = append(turns, text, want)
 	}
+	checkAskAll(t, base, turns...)
 	return len(holds), refused
 }
 

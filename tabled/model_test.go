@@ -316,7 +316,7 @@ func checkAnyText(t *testing.T, text string) {
 	if errno == api.OK && place != 0 || errno != api.OK && atoms != nil || place < 0 || place > len(text) {
 		t.Errorf("P1: with the question %q: %q, %d, %d", text, atoms, errno, place)
 	}
-	base.AskAll(text, text)
+	checkAskAll(t, base, turnsOf(base, text, "x", text, "x("+text+")")...)
 	if base.Print() != before {
 		t.Errorf("P1: asking %q changes the base", text)
 	}

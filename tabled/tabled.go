@@ -3,6 +3,7 @@ package tabled
 
 import (
 	"slices"
+	"sync"
 
 	"tabled/api"
 	"tabled/check"
@@ -113,16 +114,35 @@ func (b *Base) readQuestion(text string) (syntax.Atom, syntax.Spot, api.Errno, i
 // Layer tells a name's layer (P6).
 func (b *Base) Layer(name string) int { return layer.Of(b.clauses, name) }
 
-// Ask answers a question (P7). Its tables end with it: what is asserted or retracted next may make them untrue.
+// Ask answers a question (P7).
 func (b *Base) Ask(question string) ([]string, api.Errno, int) {
+	answer := b.answer(question, goal.New(b.clauses))
+	return answer.Atoms, answer.Error, answer.Place
+}
+
+// AskAll answers many (P8). The tables that its questions share end with it: what is asserted or retracted next may make
+// them untrue.
+func (b *Base) AskAll(questions ...string) []api.Answer {
+	answers := make([]api.Answer, len(questions))
+	tables := goal.New(b.clauses)
+	var group sync.WaitGroup
+	for i, question := range questions {
+		group.Go(func() { answers[i] = b.answer(question, tables) })
+	}
+	group.Wait()
+	return answers
+}
+
+// answer may go on for many questions at one time: it reads the base, and the tables guard themselves.
+func (b *Base) answer(question string, tables *goal.Tables) api.Answer {
 	atom, _, errno, place := b.readQuestion(question)
 	if errno != api.OK {
-		return nil, errno, place
+		return api.Answer{Error: errno, Place: place}
 	}
 	if work.IsAbove(b.clauses, api.MaxWork) {
-		return nil, api.ErrLimit, 0
+		return api.Answer{Error: api.ErrLimit}
 	}
-	return printSorted(goal.New(b.clauses).Answers(atom)), api.OK, 0
+	return api.Answer{Atoms: printSorted(tables.Answers(atom))}
 }
 
 func printSorted(atoms []syntax.Atom) []string {
@@ -133,6 +153,3 @@ func printSorted(atoms []syntax.Atom) []string {
 	slices.Sort(printed)
 	return printed
 }
-
-// AskAll answers many (P8).
-func (b *Base) AskAll(questions ...string) []api.Answer { return nil }
